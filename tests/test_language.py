@@ -1,0 +1,128 @@
+"""The rules of the language that can be told from the text of the package alone."""
+
+import ast
+import builtins
+import pathlib
+import re
+import unittest
+import warnings
+
+PACKAGE = pathlib.Path(__file__).resolve().parent.parent / "waitedmeets"
+FILES = sorted(PACKAGE.glob("*.py"))
+
+BARRED_WORDS = re.compile(
+    r"\b(type|typing|typing_extensions|enum|Enum|IntEnum|StrEnum|Flag|IntFlag|Generic|Protocol|ABC|ABCMeta|namedtuple"
+    r"|NamedTuple|TypedDict|TYPE_CHECKING|abstractmethod)\b|dataclass|overload|contextmanager"
+)
+BUILTINS = set(
+    "len range enumerate zip min max sum abs sorted reversed int str bool bytes list tuple dict set isinstance ord repr"
+    " any all divmod iter next property staticmethod classmethod super Exception ValueError TypeError KeyError IndexError"
+    " LookupError ZeroDivisionError ArithmeticError OverflowError RuntimeError NotImplementedError AttributeError"
+    " StopIteration NotImplemented".split()
+)
+
+
+def trees():
+    return [(path, ast.parse(path.read_text())) for path in FILES]
+
+
+def nodes(sort):
+    for path, tree in trees():
+        for node in ast.walk(tree):
+            if isinstance(node, sort):
+                yield path, node
+
+
+class Text(unittest.TestCase):
+    def test_only_files_of_the_language(self):
+        for path in PACKAGE.iterdir():
+            if path.name != "__pycache__":
+                self.assertRegex(path.name, r"\A[a-z0-9_]+\.py\Z")
+
+    def test_sizes(self):
+        for path in FILES:
+            rows = path.read_text().splitlines()
+            self.assertLessEqual(len(rows), 399, path.name)
+            for row in rows:
+                self.assertLessEqual(len(row), 120, (path.name, row))
+        for path, node in nodes(ast.FunctionDef):
+            self.assertLessEqual(node.end_lineno - node.lineno + 1, 40, (path.name, node.name))
+
+    def test_signs_and_words(self):
+        for path in FILES:
+            text = path.read_text()
+            self.assertRegex(text, r"\A[ -~\n]*\Z", path.name)
+            self.assertIsNone(BARRED_WORDS.search(text), path.name)
+
+    def test_strings(self):
+        for path, node in nodes(ast.Constant):
+            self.assertNotIsInstance(node.value, (float, complex), path.name)
+            if isinstance(node.value, str):
+                self.assertNotIn("%", node.value, path.name)
+
+    def test_no_warnings(self):
+        with warnings.catch_warnings():
+            warnings.simplefilter("error")
+            for path in FILES:
+                compile(path.read_text(), path.name, "exec")
+
+
+class Names(unittest.TestCase):
+    def test_no_underscore_ahead(self):
+        for path, node in nodes((ast.Name, ast.arg, ast.Attribute, ast.FunctionDef, ast.ClassDef)):
+            name = getattr(node, "id", None) or getattr(node, "arg", None) or getattr(node, "attr", None) or node.name
+            self.assertRegex(name, r"\A([A-Za-z]|__[a-z]+__\Z)", path.name)
+
+    def test_builtins(self):
+        for path, node in nodes(ast.Name):
+            if hasattr(builtins, node.id):
+                self.assertIn(node.id, BUILTINS, path.name)
+                self.assertIsInstance(node.ctx, ast.Load, (path.name, node.id))
+
+    def test_is_only_with_none_and_truths(self):
+        for path, node in nodes(ast.Compare):
+            for sign, right in zip(node.ops, node.comparators):
+                if isinstance(sign, (ast.Is, ast.IsNot)):
+                    self.assertIsInstance(right, ast.Constant, path.name)
+
+    def test_no_generator_expressions_where_likeness_is_made(self):
+        for path, node in nodes(ast.Call):
+            if isinstance(node.func, ast.Name) and node.func.id in ("any", "all", "min", "max", "sum", "sorted"):
+                for argument in node.args:
+                    self.assertNotIsInstance(argument, ast.GeneratorExp, path.name)
+
+
+class Imports(unittest.TestCase):
+    def wanted(self):
+        """For each file the files that it imports from."""
+        told = {path.stem: [] for path in FILES}
+        for path, node in nodes((ast.Import, ast.ImportFrom)):
+            self.assertIsInstance(node, ast.ImportFrom, path.name)
+            self.assertRegex(node.module, r"\Awaitedmeets\.[a-z]+\Z", path.name)
+            told[path.stem].append(node.module.partition(".")[2])
+        return told
+
+    def test_none_in_a_circle(self):
+        left = self.wanted()
+        while left:
+            ready = [name for name in left if not any(other in left for other in left[name])]
+            self.assertTrue(ready, left)
+            for name in ready:
+                del left[name]
+
+    def test_from_the_file_that_defines_the_name(self):
+        defined = {}
+        for path, tree in trees():
+            here = defined.setdefault(path.stem, set())
+            for node in tree.body:
+                if isinstance(node, (ast.FunctionDef, ast.ClassDef)):
+                    here.add(node.name)
+                if isinstance(node, ast.Assign):
+                    here.add(node.targets[0].id)
+        for path, node in nodes(ast.ImportFrom):
+            for name in node.names:
+                self.assertIn(name.name, defined[node.module.partition(".")[2]], path.name)
+
+
+if __name__ == "__main__":
+    unittest.main()

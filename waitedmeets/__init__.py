@@ -1,0 +1,1 @@
+"""Waitedmeets: letters that wait for one another."""
