@@ -1,4 +1,4 @@
-"""The rules of the language that can be told from the text of the package alone."""
+"""Some rules of the language, those that are plainly seen in the text of the package; not all of them."""
 
 import ast
 import builtins
