@@ -78,3 +78,72 @@ def with_heads(*heads):
 def with_main(*deeds):
     """A program of one kind, k, with these deeds of main."""
     return ((("k", (("a", 0),), ()),), tuple(deeds))
+
+
+OWN = ("own",)
+
+
+def of(name):
+    return ("of", name)
+
+
+def isw(worth):
+    """The operand, or the slot, of a written worth."""
+    return ("is", worth)
+
+
+def kind(name, places, *rules):
+    """A kind; its places as a text, "a0 b1" for a without things and b with one."""
+    return (name, tuple((word[:-1], int(word[-1])) for word in places.split()), tuple(rules))
+
+
+def head(place, *slots):
+    """A head; a slot that is a text is a name to take a worth by, all else a worth to ask for."""
+    return (place, tuple(("as", slot) if isinstance(slot, str) else ("is", slot) for slot in slots))
+
+
+def rule(heads, *deeds):
+    """A rule; a head that is a text is a place without things."""
+    return (tuple(head(one) if isinstance(one, str) else one for one in heads), tuple(deeds))
+
+
+def lot_at(x, name, places):
+    """Deeds of main that make a lot, called x, and its places, each called as the place's letter."""
+    return (("make", x, name), *[("place", place, of(x), place) for place in places])
+
+
+def lay(place, *worths):
+    """A deed that lays a letter with these written worths at the place that a name of this word has."""
+    return ("lay", of(place), tuple(isw(worth) for worth in worths))
+
+
+def gone(thing, body, many=1):
+    """A Stand or World whose body has gone on so many times."""
+    for _ in range(many):
+        thing.do(("go", body))
+    return thing
+
+
+def all_gone(stand):
+    """A Stand in which the least body goes, again and again, and nothing meets."""
+    while stand.steps() and stand.steps()[0][0] == "go":
+        stand.do(stand.steps()[0])
+    return stand
+
+
+# A box: what is put in is handed to who gets it.
+BOX = kind("box", "put1 get0", rule([head("put", "v"), "get"], ("answer", "get", of("v"))))
+BOXED = (
+    (BOX,),
+    (*lot_at("b", "box", ("put", "get")), lay("put", 7), ("call", "x", of("get"), ()), ("note", of("x"))),
+)
+
+
+def of_spots(many, *deeds):
+    """A program with a kind k of so many spots, from 1 to 30, whose rules have these deeds, and a kind l of one."""
+    sizes = [(one, other) for one in range(1, 10) for other in range(1, 10) if one + other <= 10]
+    one, other = next(size for size in sizes if 0 <= many - size[0] * size[1] <= 5)
+    rules = [rule([head("a", number, "v")], *deeds) for number in range(one - 1)]
+    rules += [rule([head("a", "v", number)], *deeds) for number in range(other - 1)]
+    places = "a2 e0 f0 g0 h0 i0".split()[:1 + many - one * other]
+    return ((kind("k", " ".join(places), *rules), kind("l", "a0")), ())

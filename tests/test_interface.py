@@ -11,6 +11,16 @@ PACKAGE = pathlib.Path(__file__).resolve().parent.parent / "waitedmeets"
 FUNCTIONS = {
     "worths": {"is_word": "(thing)", "is_worth": "(thing)", "alike": "(one, other)", "done": "(word, one, other)"},
     "programs": {"look_at_program": "(thing)", "kind_of": "(program, name)", "main_of": "(program)"},
+    "runs": {"first_wrong": "(program, run)", "stand_behind": "(program, run)", "chooses": "(program, run)"},
+    "parting": {
+        "spots_of": "(program, name)", "spot_of": "(program, name, place, given)", "parted_rules": "(program, name)",
+    },
+    "lotmachines": {
+        "rule_of": "(program, name, spots)", "is_still": "(program, name, spots)", "still_sets": "(program, name)",
+        "machine_of": "(program, name)", "state_of": "(program, name, spots)",
+        "row_parting": "(program, name, one, other)", "paper_of": "(program, name)",
+        "lets_machine": "(program, name, machine, paper)",
+    },
 }
 CLASSES = {
     "errors": (
@@ -18,6 +28,13 @@ CLASSES = {
         "NoMarking", "NoTeller", "NoRow", "Unlike", "NoKind", "NoBody", "NoHouse", "NoLot", "NoState", "NoRule",
         "NoDesk", "TooMany",
     ),
+}
+METHODS = {
+    ("stands", "Stand"): {
+        "__init__": "(self, program)", "steps": "(self)", "lots": "(self)", "heap": "(self, lot)", "bodies": "(self)",
+        "notes": "(self)", "faults": "(self)", "done": "(self)", "do": "(self, step)", "names": "(self, body)",
+        "twin": "(self)", "seen": "(self)", "__len__": "(self)", "__eq__": "(self, other)",
+    },
 }
 
 
@@ -38,6 +55,13 @@ class Interface(unittest.TestCase):
     def test_classes(self):
         for module, names in CLASSES.items():
             self.assertLessEqual(set(names), defined(module, ast.ClassDef))
+
+    def test_methods_stand_in_the_class_itself(self):
+        for (module, name), methods in METHODS.items():
+            self.assertIn(name, defined(module, ast.ClassDef))
+            one = getattr(importlib.import_module(f"waitedmeets.{module}"), name)
+            for method, arguments in methods.items():
+                self.assertEqual(str(inspect.signature(vars(one)[method])), arguments, (name, method))
 
 
 if __name__ == "__main__":

@@ -92,6 +92,49 @@ class Names(unittest.TestCase):
                     self.assertNotIsInstance(argument, ast.GeneratorExp, path.name)
 
 
+class Classes(unittest.TestCase):
+    def test_no_name_is_a_method_and_an_attribute(self):
+        methods = {node.name for _, one in nodes(ast.ClassDef) for node in one.body if isinstance(node, ast.FunctionDef)}
+        attributes = {node.attr for _, node in nodes(ast.Attribute) if isinstance(node.ctx, ast.Store)}
+        self.assertEqual(methods & attributes, set())
+
+    def test_attributes_that_are_read_are_assigned(self):
+        stored = {node.attr for _, node in nodes(ast.Attribute) if isinstance(node.ctx, ast.Store)}
+        for path, tree in trees():
+            called = {id(node.func) for node in ast.walk(tree) if isinstance(node, ast.Call)}
+            for node in ast.walk(tree):
+                if isinstance(node, ast.Attribute) and isinstance(node.ctx, ast.Load) and id(node) not in called:
+                    self.assertIn(node.attr, stored, path.name)
+
+    def test_no_sort_in_place(self):
+        self.assertNotIn("sort", {node.attr for _, node in nodes(ast.Attribute)})
+
+    def test_every_len_is_told_by_len(self):
+        for path, node in nodes(ast.FunctionDef):
+            if node.name == "__len__":
+                self.assertEqual(ast.unparse(node.body[-1])[:11], "return len(", path.name)
+
+
+class Bindings(unittest.TestCase):
+    def test_no_local_name_is_an_import_or_a_class(self):
+        for path, tree in trees():
+            barred = {name.name for node in tree.body if isinstance(node, ast.ImportFrom) for name in node.names}
+            barred |= {node.name for node in tree.body if isinstance(node, ast.ClassDef)}
+            for node in ast.walk(tree):
+                if isinstance(node, ast.arg):
+                    self.assertNotIn(node.arg, barred, path.name)
+                if isinstance(node, ast.Name) and isinstance(node.ctx, ast.Store):
+                    self.assertNotIn(node.id, barred, path.name)
+
+    def test_what_a_loop_goes_over_is_not_changed_in_it(self):
+        changing = {"append", "extend", "insert", "pop", "remove", "clear", "update", "setdefault", "reverse"}
+        for path, node in nodes(ast.For):
+            over = {ast.unparse(part) for part in ast.walk(node.iter) if isinstance(part, (ast.Name, ast.Attribute))}
+            for part in (inner for row in node.body for inner in ast.walk(row)):
+                if isinstance(part, ast.Attribute) and part.attr in changing:
+                    self.assertNotIn(ast.unparse(part.value), over, (path.name, node.lineno))
+
+
 class Imports(unittest.TestCase):
     def wanted(self):
         """For each file the files that it imports from."""

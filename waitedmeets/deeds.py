@@ -106,3 +106,14 @@ def first_wrong_deed(deeds, ground):
         if not is_deed(deed, len(deeds) - at - 1, ground):
             return at
     return None
+
+
+def operands_of(deed):
+    """The operands of a right deed in their order, what is given among them."""
+    found = []
+    for part, piece in zip(PARTS[deed[0]], deed[1:]):
+        if part == "operand":
+            found.append(piece)
+        if part == "given":
+            found.extend(piece)
+    return found

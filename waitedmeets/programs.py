@@ -12,6 +12,9 @@ MOST_RULES = 8
 MOST_HEADS = 4
 MOST_IN_RULE = 12
 
+# The least program: quick to look at where an object is made whose parts are another one's.
+LEAST = ((("k", (("a", 0),), ()),), ())
+
 
 def look_at_program(thing):
     """None of a program; of all else NoProgram, which tells its first wrong thing."""
