@@ -139,11 +139,15 @@ BOXED = (
 )
 
 
-def of_spots(many, *deeds):
-    """A program with a kind k of so many spots, from 1 to 30, whose rules have these deeds, and a kind l of one."""
+def of_spots(many, *heads, filling="efghi"):
+    """A program with a kind k of so many spots, those of further heads of all its rules among them, and a kind l of one.
+
+    The further heads' places carry nothing; with such of filling there are as many spots as told.
+    """
+    rest = many - len(heads)
     sizes = [(one, other) for one in range(1, 10) for other in range(1, 10) if one + other <= 10]
-    one, other = next(size for size in sizes if 0 <= many - size[0] * size[1] <= 5)
-    rules = [rule([head("a", number, "v")], *deeds) for number in range(one - 1)]
-    rules += [rule([head("a", "v", number)], *deeds) for number in range(other - 1)]
-    places = "a2 e0 f0 g0 h0 i0".split()[:1 + many - one * other]
+    one, other = next(size for size in sizes if 0 <= rest - size[0] * size[1] <= len(filling))
+    rules = [rule([head("a", number, "v"), *heads], ("note", of("v"))) for number in range(one - 1)]
+    rules += [rule([head("a", "v", number), *heads], ("note", of("v"))) for number in range(other - 1)]
+    places = ["a2", *[place + "0" for place in heads], *[place + "0" for place in filling[:rest - one * other]]]
     return ((kind("k", " ".join(places), *rules), kind("l", "a0")), ())

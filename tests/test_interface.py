@@ -21,6 +21,8 @@ FUNCTIONS = {
         "row_parting": "(program, name, one, other)", "paper_of": "(program, name)",
         "lets_machine": "(program, name, machine, paper)",
     },
+    "runner": {"weaving_of": "(program, run)"},
+    "nets": {"is_net": "(thing)", "can": "(net, marking)", "behind": "(net, marking, rule)"},
 }
 CLASSES = {
     "errors": (
@@ -34,6 +36,18 @@ METHODS = {
         "__init__": "(self, program)", "steps": "(self)", "lots": "(self)", "heap": "(self, lot)", "bodies": "(self)",
         "notes": "(self)", "faults": "(self)", "done": "(self)", "do": "(self, step)", "names": "(self, body)",
         "twin": "(self)", "seen": "(self)", "__len__": "(self)", "__eq__": "(self, other)",
+    },
+    ("runner", "Runner"): {
+        "__init__": "(self, program)", "go": "(self, body)", "weave": "(self, bodies)", "ready": "(self)",
+        "weaving": "(self)", "run": "(self)", "lots": "(self)", "heap": "(self, lot)", "bodies": "(self)",
+        "notes": "(self)", "faults": "(self)", "names": "(self, body)", "state": "(self, lot)", "is_over": "(self)",
+        "left": "(self)", "stand": "(self)", "twin": "(self)", "seen": "(self)", "__len__": "(self)",
+    },
+    ("world", "World"): {
+        "__init__": "(self, program, *, houses=2)", "do": "(self, step)", "steps": "(self)", "run": "(self)",
+        "waiting": "(self, house)", "heap": "(self, lot)", "lots": "(self)", "bodies": "(self)", "notes": "(self)",
+        "faults": "(self)", "where": "(self, lot)", "knows": "(self, house, lot)", "post": "(self)",
+        "house_of": "(self, body)", "home": "(self)", "twin": "(self)", "__len__": "(self)", "__eq__": "(self, other)",
     },
 }
 

@@ -221,6 +221,12 @@ class Rows(unittest.TestCase):
         self.assertEqual(row_parting(OTHERS, "k", 2, 3), (0,))
         self.assertEqual(row_parting(other=1, one=0, name="k", program=OTHERS), (1,))
 
+    def test_past_letters_by_which_both_go_off_alike(self):
+        # Rule 7 goes off by a, in whatever state; there is no state 7.
+        program = ((kind("k", "a0 b0 c0 d0", *[rule(["b", "c", "d"])] * 7, rule(["a"])),), ())
+        self.assertEqual(len(machine_of(program, "k")), 7)
+        self.assertEqual(row_parting(program, "k", 0, 1), (2, 3))
+
     def test_of_one_and_the_same(self):
         for state in range(7):
             self.assertIsNone(row_parting(THREE, "k", state, state))

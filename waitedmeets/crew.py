@@ -15,8 +15,8 @@ class Body:
     """One that goes from deed to deed.
 
     todo are the deeds that are left; askers has for each place at which a letter was taken for it who asked by that
-    letter, or None; answered are those of these places whose askers it has answered; goal is the name for which it
-    waits, None where it doesn't wait.
+    letter, or None, and is never changed; answered are those of these places whose askers it has answered; goal is the
+    name for which it waits, None where it doesn't wait.
     """
 
     def __init__(self, number, lot, worths, todo, askers):
@@ -42,7 +42,7 @@ class Body:
 
     def copied(self):
         """A body like it that goes on by itself."""
-        other = Body(self.number, self.lot, dict(self.worths), self.todo, dict(self.askers))
+        other = Body(self.number, self.lot, dict(self.worths), self.todo, self.askers)
         other.answered = list(self.answered)
         other.goal = self.goal
         return other
@@ -58,7 +58,6 @@ class Crew:
     """The bodies of a program, and what they have made and told."""
 
     def __init__(self, program):
-        self.program = program
         # Made once, as it is looked at whenever two are compared.
         self.program_text = repr(program)
         self.kinds = {kind[0]: kind for kind in program[0]}
@@ -157,7 +156,6 @@ class Crew:
     def copied(self):
         """A crew like it that goes on by itself."""
         other = Crew(LEAST)
-        other.program = self.program
         other.program_text = self.program_text
         other.kinds = self.kinds
         other.lot_kinds = list(self.lot_kinds)

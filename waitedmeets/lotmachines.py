@@ -103,8 +103,9 @@ def first_parting(machine, one, other):
     at = 0
     while at < len(pairs):
         left, right = pairs[at]
+        ahead = rows[(left, right)]
         for spot, (entry, beside) in enumerate(zip(machine[left], machine[right])):
-            row = (*rows[(left, right)], spot)
+            row = (*ahead, spot)
             if entry != beside and "goes" in (entry[0], beside[0]):
                 return row
             pair = (entry[1], beside[1])

@@ -56,7 +56,7 @@ def classes_at(kind, place, many):
     """The classes of a place, the first slot's worth changing last."""
     rows = [()]
     for slot in range(many):
-        parts = [*constants_at(kind, place, slot), None]
+        parts = constants_at(kind, place, slot) + [None]
         rows = [(*row, part) for row in rows for part in parts]
     return rows
 

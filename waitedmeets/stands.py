@@ -104,7 +104,7 @@ class Stand:
 
     def seen(self):
         """A tuple that is the same for stands that are alike, and for no others."""
-        return (*self.crew.image(), repr(self.heaps))
+        return (self.crew.image(), repr(self.heaps))
 
     def __len__(self):
         return len(self.past)
