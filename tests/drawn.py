@@ -104,6 +104,29 @@ def draw_program(seed):
     return program
 
 
+def draw_net(seed):
+    """A net and a marking of it; some grow, some do not."""
+    rng = random.Random(seed)
+    places = [("abcd"[number], rng.choice((0, 0, 1))) for number in range(rng.randint(1, 4))]
+    rules = []
+    for _ in range(rng.randint(0, 4)):
+        heads = tuple((place, (("as", place + "x"),) * many) for place, many in rng.sample(places, rng.randint(1, len(places))))
+        puts = [rng.choice(places) for _ in range(rng.choice((0, 1, 1, 2, len(heads), 3)))]
+        rules.append((heads, tuple(("put", place, (("is", rng.choice(WORTHS)),) * many) for place, many in puts)))
+    return ("k", tuple(places), tuple(rules)), tuple(rng.choice((0, 1, 1, 2, 3)) for _ in places)
+
+
+def draw_teller(rng, many):
+    """A teller with so many places."""
+    places = ["abcd"[number] for number in range(many)]
+    rng.shuffle(places)
+    rules = []
+    for _ in range(rng.randint(0, 4)):
+        heads = tuple((place, ()) for place in rng.sample(places, rng.randint(1, min(3, many))))
+        rules.append((heads, tuple(("note", ("is", rng.choice(WORTHS))) for _ in range(rng.choice((0, 0, 1, 1, 2))))))
+    return (rng.choice("kl"), tuple((place, 0) for place in places), tuple(rules))
+
+
 def walked(thing, seed, most):
     """Does up to so many drawn steps of a Stand or a World; yields it behind each."""
     rng = random.Random(seed)

@@ -23,6 +23,14 @@ FUNCTIONS = {
     },
     "runner": {"weaving_of": "(program, run)"},
     "nets": {"is_net": "(thing)", "can": "(net, marking)", "behind": "(net, marking, rule)"},
+    "growing": {"holds": "(net, marking, *, most=500)", "lets_holds": "(net, marking, thing)"},
+    "tellers": {"is_teller": "(thing)", "told_by": "(teller, row)"},
+    "likeness": {
+        "likeness": "(one, other, *, within=1)", "lets_likeness": "(one, other, thing, *, within=1)",
+    },
+    "made": {
+        "locked": "(many)", "shelved": "(numbers)", "met": "(many)", "reading": "(many)", "keeps": "(word, of, notes)",
+    },
 }
 CLASSES = {
     "errors": (

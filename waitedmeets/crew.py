@@ -8,7 +8,7 @@ from waitedmeets.deeds import operands_of
 from waitedmeets.doing import DOINGS, NOTHING
 from waitedmeets.errors import NoBody, NoLot
 from waitedmeets.programs import LEAST
-from waitedmeets.worths import is_whole
+from waitedmeets.worths import is_number_below, is_whole
 
 
 class Body:
@@ -99,7 +99,7 @@ class Crew:
 
     def look_at_lot(self, thing):
         """NoLot of anything that is no number of a lot."""
-        if not is_whole(thing) or not 0 <= thing < len(self.lot_kinds):
+        if not is_number_below(thing, len(self.lot_kinds)):
             raise NoLot(thing)
 
     def look_at_body(self, thing):

@@ -6,7 +6,7 @@ from waitedmeets.fewest import machine_in, row_by
 from waitedmeets.parting import count_spots, parted_in
 from waitedmeets.programs import kind_of
 from waitedmeets.stillsets import entries_of, first_rule, is_set, still_in
-from waitedmeets.worths import is_whole, says
+from waitedmeets.worths import is_number_below, is_whole, says
 
 MOST_IN_MACHINE = 10
 
@@ -86,11 +86,6 @@ def made_machine(program, name):
     """The made machine of a kind, and the states of its still sets."""
     rules, many = few_spots(program, name)
     return machine_in(entries_of(rules, many))
-
-
-def is_number_below(thing, many):
-    """Whether it is the number of one of so many, of anything."""
-    return is_whole(thing) and 0 <= thing < many
 
 
 def first_parting(machine, one, other):

@@ -1,9 +1,9 @@
 """Nets: kinds of which it is enough to know how many letters lie at each place."""
 
-from waitedmeets.deeds import operands_of
+from waitedmeets.deeds import is_tuple_of, operands_of
 from waitedmeets.errors import NoMarking, NoNet, NoProgram, NoRule
 from waitedmeets.programs import look_at_program, names_in
-from waitedmeets.worths import is_whole, is_whole_from
+from waitedmeets.worths import is_number_below, is_whole_from
 
 NET_WORDS = ("set", "put", "note")
 
@@ -17,20 +17,17 @@ def can(net, marking):
     """The numbers, rising, of the rules that can be done at a marking."""
     look_at_net(net)
     look_at_marking(net, marking)
-    return rules_possible(net, marking)
+    return [rule for rule, change in enumerate(changes_of(net)) if can_be_done(change, marking)]
 
 
 def behind(net, marking, rule):
     """The marking behind a rule; NoRule of anything that is no number of one that can be done."""
     look_at_net(net)
     look_at_marking(net, marking)
-    if not is_whole(rule) or rule not in rules_possible(net, marking):
+    changes = changes_of(net)
+    if not is_number_below(rule, len(changes)) or not can_be_done(changes[rule], marking):
         raise NoRule(rule)
-    heads, deeds = net[2][rule]
-    taken = [place for place, slots in heads]
-    added = [deed[1] for deed in deeds if deed[0] == "put"]
-    words = [word for word, carried in net[1]]
-    return tuple([many - taken.count(word) + added.count(word) for word, many in zip(words, marking)])
+    return changed(changes[rule], marking)
 
 
 def look_at_net(thing):
@@ -41,21 +38,41 @@ def look_at_net(thing):
 
 def look_at_marking(net, thing):
     """NoMarking of anything that is no marking of a net."""
-    if not isinstance(thing, tuple) or len(thing) != len(net[1]):
-        raise NoMarking("no tuple with a number for each place")
-    if not all([is_whole_from(many, 0) for many in thing]):
-        raise NoMarking("not all are whole numbers from 0 on")
+    if not is_marking(thing, len(net[1])):
+        raise NoMarking("no tuple with a whole number from 0 on for each place")
 
 
-def rules_possible(net, marking):
-    """The numbers of the rules of which each head's place has a letter."""
-    lying = [row[0] for row, many in zip(net[1], marking) if many > 0]
-    return [number for number, (heads, deeds) in enumerate(net[2]) if has_all(lying, heads)]
+def is_marking(thing, many):
+    """Whether it is a tuple of how many letters lie at each of so many places, of anything."""
+    return is_tuple_of(thing, many, many) and all([is_whole_from(lying, 0) for lying in thing])
 
 
-def has_all(lying, heads):
-    """Whether letters lie at the places of all heads."""
-    return all([place in lying for place, slots in heads])
+def changes_of(net):
+    """What each rule does to a marking: at which places, by numbers, it wants a letter, and how many more are at each
+    place behind it."""
+    words = [word for word, carried in net[1]]
+    return [change_by(rule, words) for rule in net[2]]
+
+
+def change_by(rule, words):
+    """What a rule does to the places of these words."""
+    heads, deeds = rule
+    taken = [place for place, slots in heads]
+    added = [deed[1] for deed in deeds if deed[0] == "put"]
+    wanted = [words.index(place) for place in taken]
+    return (wanted, [added.count(word) - taken.count(word) for word in words])
+
+
+def can_be_done(change, marking):
+    """Whether a letter lies at each place where one is wanted."""
+    wanted, more = change
+    return all([marking[place] > 0 for place in wanted])
+
+
+def changed(change, marking):
+    """The marking behind a rule that can be done."""
+    wanted, more = change
+    return tuple([many + further for many, further in zip(marking, more)])
 
 
 def is_kind(thing):

@@ -3,12 +3,12 @@
 Rules are parted ones here: for each rule, for each head, the spots that it takes.
 """
 
-from waitedmeets.worths import is_whole
+from waitedmeets.worths import is_number_below
 
 
 def is_set(thing, many):
     """Whether it is a set of some of so many spots, of anything."""
-    if not isinstance(thing, tuple) or not all([is_whole(spot) and 0 <= spot < many for spot in thing]):
+    if not isinstance(thing, tuple) or not all([is_number_below(spot, many) for spot in thing]):
         return False
     return all([spot < other for spot, other in zip(thing, thing[1:])])
 

@@ -1,11 +1,12 @@
 """Lots at several houses, moved with their letters; letters, answers and lots go by post."""
 
+from waitedmeets.bounds import look_at_number
 from waitedmeets.crew import Crew
-from waitedmeets.errors import NoHouse, NoNumber, NoStep
+from waitedmeets.errors import NoHouse, NoStep
 from waitedmeets.meetings import begin_met, first_meeting, without
 from waitedmeets.programs import LEAST, look_at_program
 from waitedmeets.sites import House, Site
-from waitedmeets.worths import is_whole, says
+from waitedmeets.worths import is_number_below, is_whole, says
 
 MOST_HOUSES = 4
 
@@ -19,8 +20,7 @@ class World:
 
     def __init__(self, program, *, houses=2):
         look_at_program(program)
-        if not is_whole(houses) or not 1 <= houses <= MOST_HOUSES:
-            raise NoNumber("no number of houses from 1 to 4")
+        look_at_number(houses, 1, MOST_HOUSES)
         self.crew = Crew(program)
         self.lodging = {body: 0 for body in self.crew.working}
         self.sites = []
@@ -203,7 +203,7 @@ class World:
 
     def look_at_house(self, thing):
         """NoHouse of anything that is no number of a house."""
-        if not is_whole(thing) or not 0 <= thing < len(self.town):
+        if not is_number_below(thing, len(self.town)):
             raise NoHouse(thing)
 
     def home(self):

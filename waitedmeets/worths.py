@@ -29,6 +29,11 @@ def is_whole_from(thing, least):
     return is_whole(thing) and thing >= least
 
 
+def is_number_below(thing, many):
+    """Whether it is the number of one of so many, numbered from 0, of anything."""
+    return is_whole(thing) and 0 <= thing < many
+
+
 def is_number(thing):
     """Whether it is a number that is a worth."""
     return is_whole(thing) and -MOST <= thing <= MOST
