@@ -31,6 +31,11 @@ FUNCTIONS = {
     "made": {
         "locked": "(many)", "shelved": "(numbers)", "met": "(many)", "reading": "(many)", "keeps": "(word, of, notes)",
     },
+    "weavings": {"ends": "(program, *, most=4000, compiled=False)"},
+    "otherwise": {"called": "(program, *, kinds=None, words=None)", "worth_called": "(worth, words)"},
+    "texts": {
+        "show_program": "(program)", "show_run": "(run)", "read_program": "(text)", "read_run": "(text)",
+    },
 }
 CLASSES = {
     "errors": (
@@ -57,6 +62,7 @@ METHODS = {
         "faults": "(self)", "where": "(self, lot)", "knows": "(self, house, lot)", "post": "(self)",
         "house_of": "(self, body)", "home": "(self)", "twin": "(self)", "__len__": "(self)", "__eq__": "(self, other)",
     },
+    ("desk", "Desk"): {"__init__": "(self)", "say": "(self, row)"},
 }
 
 
