@@ -1,5 +1,8 @@
 """Programs that several tests take, and things that are none of anything."""
 
+from waitedmeets.errors import NoNames
+from waitedmeets.otherwise import called
+
 # Every deed and every sort of operand and slot stands in it once or more.
 FULL = (
     (
@@ -151,3 +154,23 @@ def of_spots(many, *heads, filling="efghi"):
     rules += [rule([head("a", "v", number), *heads], ("note", of("v"))) for number in range(other - 1)]
     places = ["a2", *[place + "0" for place in heads], *[place + "0" for place in filling[:rest - one * other]]]
     return ((kind("k", " ".join(places), *rules), kind("l", "a0")), ())
+
+
+def all_words(program):
+    """The words of places and names of a program: those of its words that can be called as they are."""
+    found = set()
+    for word in {piece for piece in flat(program) if isinstance(piece, str)}:
+        try:
+            called(program, words={word: word})
+        except NoNames:
+            continue
+        found.add(word)
+    return sorted(found)
+
+
+def flat(thing):
+    if isinstance(thing, tuple):
+        for piece in thing:
+            yield from flat(piece)
+    else:
+        yield thing

@@ -9,7 +9,7 @@ from waitedmeets.runner import Runner
 from waitedmeets.texts import read_program, show_program, show_run
 
 from drawn import draw_program, woven
-from samples import BOX, BOXED, JUNK, OWN, head, isw, kind, lay, lot_at, of, of_spots, rule
+from samples import BOX, BOXED, JUNK, OWN, isw, kind, lay, lot_at, of, of_spots, rule
 
 ASKING = ("go 0", "run 3", "ready", "heap 0", "state 0", "notes", "faults", "steps")
 

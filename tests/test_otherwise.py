@@ -12,7 +12,7 @@ from waitedmeets.stands import Stand
 from waitedmeets.world import World
 
 from drawn import draw_program, walked, woven
-from samples import BOX, BOXED, FULL, JUNK, OWN, Thing, head, isw, kind, lay, lot_at, of, rule
+from samples import BOX, BOXED, FULL, JUNK, OWN, Thing, all_words, head, isw, kind, lot_at, of, rule
 
 # Each word of FULL's kinds, and each word of its places and names.
 KINDS = ("shop", "idle", "desk")
@@ -50,26 +50,6 @@ def told_called(told, kinds, words):
 
 def text_of(told):
     return repr([sorted(piece.items()) if isinstance(piece, dict) else piece for piece in told])
-
-
-def all_words(program):
-    """The words of places and names of a program: those of its words that can be called as they are."""
-    found = set()
-    for word in {piece for piece in flat(program) if isinstance(piece, str)}:
-        try:
-            called(program, words={word: word})
-        except NoNames:
-            continue
-        found.add(word)
-    return sorted(found)
-
-
-def flat(thing):
-    if isinstance(thing, tuple):
-        for piece in thing:
-            yield from flat(piece)
-    else:
-        yield thing
 
 
 class ByHand(unittest.TestCase):

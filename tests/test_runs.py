@@ -8,7 +8,7 @@ from waitedmeets.runs import chooses, first_wrong, stand_behind
 from waitedmeets.stands import Stand
 
 from drawn import draw_program, walked
-from samples import BOXED, JUNK, Thing, head, isw, kind, lay, lot_at, of, rule
+from samples import BOXED, JUNK, Thing, head, isw, kind, lay, lot_at, rule
 
 GO = ("go", 0)
 BOX_MEET = ("meet", 0, 0, (0, 1))

@@ -8,7 +8,7 @@ from waitedmeets.runner import Runner
 from waitedmeets.tellers import is_teller, told_by
 
 from drawn import draw_teller
-from samples import BOX, BOXED, FULL, JUNK, OWN, Thing, head, isw, kind, lay, lot_at, of, rule
+from samples import BOX, BOXED, FULL, JUNK, OWN, Thing, isw, kind, lay, lot_at, of, rule
 
 NOTE = ("note", isw(1))
 TELLER = kind(

@@ -9,7 +9,7 @@ from waitedmeets.stands import Stand
 from waitedmeets.texts import read_program, read_run, show_program, show_run
 
 from drawn import draw_program, walked, woven
-from samples import BOXED, FULL, JUNK, OWN, Thing, isw, kind, with_deeds, with_heads, with_main, with_rules
+from samples import BOXED, FULL, JUNK, OWN, isw, kind, with_deeds, with_heads, with_main, with_rules
 
 FULL_TEXT = """kind shop
 place ask 2

@@ -17,6 +17,7 @@ from waitedmeets.weavings import ends
 from waitedmeets.world import World
 
 from drawn import draw_net, draw_program, draw_teller, walked, woven
+from samples import all_words
 
 MADE_OF = (
     (locked, 1), (locked, 2), (shelved, [7]), (shelved, [-1, 10 ** 9, -1]), (met, 2), (met, 3), (reading, 1), (reading, 2),
@@ -26,22 +27,8 @@ MADE_OF = (
 def renamed(program):
     """The program with all of its kinds, places and names called by new words."""
     kinds = {one[0]: f"q{one[0][:5]}" for one in program[0]}
-    words = {}
-    for word in sorted({piece for piece in flat(program) if isinstance(piece, str)}):
-        try:
-            called(program, words={word: word})
-        except ValueError:
-            continue
-        words[word] = "z" + "abcdefghijklmnopqrstuvwxyz"[len(words)]
+    words = {word: "z" + "abcdefghijklmnopqrstuvwxyz"[at] for at, word in enumerate(all_words(program))}
     return called(program, kinds=kinds, words=words)
-
-
-def flat(thing):
-    if isinstance(thing, tuple):
-        for piece in thing:
-            yield from flat(piece)
-    else:
-        yield thing
 
 
 class Written(unittest.TestCase):

@@ -8,7 +8,7 @@ from waitedmeets.stands import Stand
 from waitedmeets.world import World
 
 from drawn import draw_program, walked
-from samples import BOX, BOXED, JUNK, OWN, Thing, gone, head, isw, kind, lay, lot_at, of, rule
+from samples import BOXED, JUNK, OWN, Thing, gone, head, isw, kind, lay, lot_at, of, rule
 
 GO = ("go", 0)
 COUNTER = kind("k", "a0", rule(["a"], ("note", OWN)))
