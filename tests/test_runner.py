@@ -351,6 +351,19 @@ class Own(unittest.TestCase):
         twin.weave([0] * 5 + [1, 0])
         self.assertEqual(told(twin), told(runner_of(BOXED, [0] * 5 + [1, 0])))
 
+    def test_kinds_whose_first_lot_one_twin_makes_ahead_of_the_other(self):
+        k = kind("k", "a0 b0", rule(["a", "b"], ("note", isw(1))))
+        other = kind("l", "a1 b0", rule([head("a", 3), "b"], ("note", isw(2))), rule([head("a", "v")]))
+        main = (*lot_at("m", "k", "ab"), lay("a"), *lot_at("n", "l", "ab"), lay("a", 3), lay("b"), ("make", "o", "k"))
+        runner = runner_of(((k, other), main), [0] * 4)
+        twin = runner.twin()
+        twin.weave([0] * 6)
+        self.assertEqual((twin.lots(), runner.lots()), (["k", "l", "k"], ["k"]))
+        ahead = told(twin)
+        runner.weave([0] * 6)
+        self.assertEqual((told(runner), told(twin)), (ahead, ahead))
+        self.assertEqual(told(runner_of(((k, other), main), [0] * 10)), ahead)
+
     def test_a_stand_each_time_anew(self):
         runner = runner_of(BOXED, [0, 0])
         runner.stand().do(GO)

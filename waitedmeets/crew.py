@@ -58,8 +58,9 @@ class Crew:
     """The bodies of a program, and what they have made and told."""
 
     def __init__(self, program):
-        # Made once, as it is looked at whenever two are compared.
-        self.program_text = repr(program)
+        self.program = program
+        # Made once, but not ahead of when two are compared, as most never are.
+        self.program_text = None
         self.kinds = {kind[0]: kind for kind in program[0]}
         self.lot_kinds = []
         self.working = {}
@@ -89,9 +90,12 @@ class Crew:
         self.next_letter += 1
         return letter
 
-    def places_at(self, lot):
-        """The places of a lot, with how many things their letters carry."""
-        return {word: many for word, many in self.kinds[self.lot_kinds[lot]][1]}
+    def carried_at(self, lot, place):
+        """How many things letters at a place of a lot carry; None where its kind has no such place."""
+        for word, many in self.kinds[self.lot_kinds[lot]][1]:
+            if word == place:
+                return many
+        return None
 
     def rules_at(self, lot):
         """The rules of a lot."""
@@ -130,33 +134,37 @@ class Crew:
             self.failed.append((number, told[1]))
             del self.working[number]
             return NOTHING
-        self.end_if_over(number)
+        if body.is_over():
+            del self.working[number]
         return told
 
     def told_by(self, body, deed):
         """What a deed of a body tells; unset goes ahead of all that the deed itself would tell."""
         worths = [body.worth_of(operand) for operand in operands_of(deed)]
-        if any([worth is None for worth in worths]):
+        if None in worths:
             return ("fault", "unset")
         doing = DOINGS[deed[0]]
         return doing(self, body, deed, worths)
-
-    def end_if_over(self, number):
-        """A body for which nothing is left is gone."""
-        if self.working[number].is_over():
-            del self.working[number]
 
     def give_answer(self, number, worth):
         """The body that has waited for this worth goes on."""
         body = self.working[number]
         body.worths[body.goal] = worth
         body.goal = None
-        self.end_if_over(number)
+        if body.is_over():
+            del self.working[number]
+
+    def text_of_program(self):
+        """A text that is the same for the same program, and for no other: in it True is not 1."""
+        if self.program_text is None:
+            self.program_text = repr(self.program)
+        return self.program_text
 
     def copied(self):
         """A crew like it that goes on by itself."""
         other = Crew(LEAST)
-        other.program_text = self.program_text
+        other.program = self.program
+        other.program_text = self.text_of_program()
         other.kinds = self.kinds
         other.lot_kinds = list(self.lot_kinds)
         other.working = {number: self.working[number].copied() for number in self.working}
@@ -174,4 +182,4 @@ class Crew:
         bodies = [self.working[number].image() for number in sorted(self.working)]
         numbers = (self.next_letter, self.next_body)
         told = (tuple(self.lot_kinds), repr(self.noted), tuple(self.failed))
-        return (self.program_text, told, tuple(bodies), numbers)
+        return (self.text_of_program(), told, tuple(bodies), numbers)

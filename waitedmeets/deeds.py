@@ -1,6 +1,6 @@
 """Deeds and their operands: what is one, and what is none."""
 
-from waitedmeets.worths import WORDS, is_whole, is_word, is_written, says
+from waitedmeets.worths import WORDS, is_whole, is_word, is_written
 
 MOST_GIVEN = 3
 
@@ -16,6 +16,21 @@ PARTS = {
     "call": ("name", "operand", "given"),
     "answer": ("head", "operand"),
     "when": ("operand", "many"),
+}
+
+
+# Where a deed's operands stand, from which piece of it to which, and where what is given to a letter does.
+OPERANDS = {
+    "set": (2, 3, None),
+    "let": (3, 5, None),
+    "note": (1, 2, None),
+    "make": (1, 1, None),
+    "place": (2, 3, None),
+    "lay": (1, 2, 2),
+    "put": (1, 1, 2),
+    "call": (2, 3, 3),
+    "answer": (2, 3, None),
+    "when": (1, 2, None),
 }
 
 
@@ -41,20 +56,23 @@ def is_tuple_of(thing, least, most):
 
 def is_operand(thing, has_own):
     """Whether it is an operand; own is one only where there is an own lot."""
-    if is_tuple_of(thing, 1, 1):
-        return has_own and says(thing[0], "own")
-    if not is_tuple_of(thing, 2, 2):
+    if not isinstance(thing, tuple):
         return False
-    if says(thing[0], "of"):
-        return is_word(thing[1])
-    return says(thing[0], "is") and is_written(thing[1])
+    if len(thing) == 2:
+        if thing[0] == "of":
+            return is_word(thing[1])
+        return thing[0] == "is" and is_written(thing[1])
+    return has_own and len(thing) == 1 and thing[0] == "own"
 
 
 def is_given(thing, has_own):
     """Whether it is a tuple of operands for a letter."""
-    if not is_tuple_of(thing, 0, MOST_GIVEN):
+    if not isinstance(thing, tuple) or len(thing) > MOST_GIVEN:
         return False
-    return all([is_operand(operand, has_own) for operand in thing])
+    for operand in thing:
+        if not is_operand(operand, has_own):
+            return False
+    return True
 
 
 def is_named(thing, words):
@@ -62,42 +80,73 @@ def is_named(thing, words):
     return is_word(thing) and thing in words
 
 
-def is_part(part, thing, behind, ground):
-    """Whether it can be this part of a deed behind which so many deeds stand."""
-    if part == "name":
-        return is_word(thing)
-    if part == "operand":
-        return is_operand(thing, ground.has_own)
-    if part == "given":
-        return is_given(thing, ground.has_own)
-    if part == "many":
-        return is_whole(thing) and 1 <= thing <= behind
-    return is_named(thing, named_by(part, ground))
+def right_set(deed, behind, ground):
+    return is_word(deed[1]) and is_operand(deed[2], ground.has_own)
 
 
-def named_by(part, ground):
-    """The words of which a part of a deed is one."""
-    if part == "word":
-        return WORDS
-    if part == "kind":
-        return ground.kinds
-    if part == "head":
-        return ground.heads
-    return ground.places
+def right_let(deed, behind, ground):
+    if not is_word(deed[1]) or not is_named(deed[2], WORDS):
+        return False
+    return is_operand(deed[3], ground.has_own) and is_operand(deed[4], ground.has_own)
+
+
+def right_note(deed, behind, ground):
+    return is_operand(deed[1], ground.has_own)
+
+
+def right_make(deed, behind, ground):
+    return is_word(deed[1]) and is_named(deed[2], ground.kinds)
+
+
+def right_place(deed, behind, ground):
+    return is_word(deed[1]) and is_operand(deed[2], ground.has_own) and is_word(deed[3])
+
+
+def right_lay(deed, behind, ground):
+    return is_operand(deed[1], ground.has_own) and is_given(deed[2], ground.has_own)
+
+
+def right_put(deed, behind, ground):
+    if not is_named(deed[1], ground.places) or not is_given(deed[2], ground.has_own):
+        return False
+    return len(deed[2]) == ground.places[deed[1]]
+
+
+def right_call(deed, behind, ground):
+    return is_word(deed[1]) and is_operand(deed[2], ground.has_own) and is_given(deed[3], ground.has_own)
+
+
+def right_answer(deed, behind, ground):
+    return is_named(deed[1], ground.heads) and is_operand(deed[2], ground.has_own)
+
+
+def right_when(deed, behind, ground):
+    return is_operand(deed[1], ground.has_own) and is_whole(deed[2]) and 1 <= deed[2] <= behind
+
+
+# What asks of a deed with as many pieces as its first word wants whether these are right.
+ASKED = {
+    "set": right_set,
+    "let": right_let,
+    "note": right_note,
+    "make": right_make,
+    "place": right_place,
+    "lay": right_lay,
+    "put": right_put,
+    "call": right_call,
+    "answer": right_answer,
+    "when": right_when,
+}
 
 
 def is_deed(thing, behind, ground):
     """Whether it is a deed that may stand on this ground, with so many deeds behind it."""
     if not isinstance(thing, tuple) or len(thing) == 0:
         return False
-    if not is_word(thing[0]) or thing[0] not in PARTS:
+    if not isinstance(thing[0], str) or thing[0] not in PARTS or len(thing) != 1 + len(PARTS[thing[0]]):
         return False
-    parts = PARTS[thing[0]]
-    if len(thing) != 1 + len(parts):
-        return False
-    if not all([is_part(part, piece, behind, ground) for part, piece in zip(parts, thing[1:])]):
-        return False
-    return thing[0] != "put" or len(thing[2]) == ground.places[thing[1]]
+    asking = ASKED[thing[0]]
+    return asking(thing, behind, ground)
 
 
 def first_wrong_deed(deeds, ground):
@@ -109,11 +158,8 @@ def first_wrong_deed(deeds, ground):
 
 
 def operands_of(deed):
-    """The operands of a right deed in their order, what is given among them."""
-    found = []
-    for part, piece in zip(PARTS[deed[0]], deed[1:]):
-        if part == "operand":
-            found.append(piece)
-        if part == "given":
-            found.extend(piece)
-    return found
+    """The operands of a right deed in their order, what is given among them, a tuple."""
+    first, last, given = OPERANDS[deed[0]]
+    if given is None:
+        return deed[first:last]
+    return deed[first:last] + deed[given]

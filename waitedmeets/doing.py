@@ -5,9 +5,14 @@ that lot; ("answer", body, worth), one that goes to that body; or it tells ("fau
 of the deed's operands, all of which are set: that is asked ahead of them.
 """
 
-from waitedmeets.worths import done, is_lot, is_place
+from waitedmeets.worths import done
 
 NOTHING = ("nothing",)
+
+
+def is_tagged(worth, tag):
+    """Whether a worth is a lot, or a place, as the tag says; that it is a worth is known here."""
+    return isinstance(worth, tuple) and worth[0] == tag
 
 
 def do_set(crew, body, deed, worths):
@@ -35,9 +40,9 @@ def do_make(crew, body, deed, worths):
 
 def do_place(crew, body, deed, worths):
     lot = worths[0]
-    if not is_lot(lot):
+    if not is_tagged(lot, "lot"):
         return ("fault", "kind")
-    if deed[3] not in crew.places_at(lot[1]):
+    if crew.carried_at(lot[1], deed[3]) is None:
         return ("fault", "place")
     body.worths[deed[1]] = ("place", lot[1], deed[3])
     return NOTHING
@@ -62,9 +67,9 @@ def laid(crew, worths, asker):
     """A letter to the place that is the first worth, with the others, if there can be one."""
     place = worths[0]
     given = worths[1:]
-    if not is_place(place):
+    if not is_tagged(place, "place"):
         return ("fault", "kind")
-    if crew.places_at(place[1])[place[2]] != len(given):
+    if crew.carried_at(place[1], place[2]) != len(given):
         return ("fault", "many")
     return ("letter", place[1], crew.new_letter(place[2], given, asker))
 

@@ -2,10 +2,10 @@
 
 from waitedmeets.deeds import is_tuple_of
 from waitedmeets.errors import NoSet, NoState, TooMany
-from waitedmeets.fewest import machine_in, row_by
-from waitedmeets.parting import count_spots, parted_in
-from waitedmeets.programs import kind_of
-from waitedmeets.stillsets import entries_of, first_rule, is_set, still_in
+from waitedmeets.fewest import machine_by
+from waitedmeets.parting import grid_of, parted_in
+from waitedmeets.programs import kind_named
+from waitedmeets.stillsets import GOES, Sieve, as_bits, first_rule, is_set, row_of, stills_by
 from waitedmeets.worths import is_number_below, is_whole, says
 
 MOST_IN_MACHINE = 10
@@ -14,9 +14,7 @@ MOST_IN_MACHINE = 10
 def rule_of(program, name, spots):
     """The number of the first rule that can meet where a set of spots lies, or None; NoSet of no set."""
     rules, many = few_spots(program, name)
-    if not is_set(spots, many):
-        raise NoSet(spots)
-    return first_rule(rules, spots)
+    return rule_at(rules, many, spots)
 
 
 def is_still(program, name, spots):
@@ -27,21 +25,25 @@ def is_still(program, name, spots):
 def still_sets(program, name):
     """All still sets, sorted by how many spots are in them, then as tuples."""
     rules, many = few_spots(program, name)
-    return still_in(rules, many)
+    return [spots for spots, mask, covered in stills_by(Sieve(rules, many))]
 
 
 def machine_of(program, name):
     """The machine of a kind, with the fewest states."""
-    machine, states = made_machine(program, name)
+    rules, many = few_spots(program, name)
+    sieve = Sieve(rules, many)
+    machine, states = machine_by(sieve, stills_by(sieve))
     return machine
 
 
 def state_of(program, name, spots):
     """The number of the state of a still set; NoSet of all else."""
-    if not is_still(program, name, spots):
+    rules, many = few_spots(program, name)
+    if rule_at(rules, many, spots) is not None:
         raise NoSet(spots)
-    machine, states = made_machine(program, name)
-    return states[spots]
+    sieve = Sieve(rules, many)
+    machine, states = machine_by(sieve, stills_by(sieve))
+    return states[as_bits(spots)]
 
 
 def row_parting(program, name, one, other):
@@ -57,35 +59,47 @@ def row_parting(program, name, one, other):
 
 def paper_of(program, name):
     """The paper of the made machine: each still set, in order, with its state."""
-    machine, states = made_machine(program, name)
-    return [(spots, states[spots]) for spots in still_sets(program, name)]
+    rules, many = few_spots(program, name)
+    sieve = Sieve(rules, many)
+    stills = stills_by(sieve)
+    machine, states = machine_by(sieve, stills)
+    return [(spots, states[mask]) for spots, mask, covered in stills]
 
 
 def lets_machine(program, name, machine, paper):
     """Whether a machine with its paper tells for each still set what comes of each letter; of anything."""
     rules, many = few_spots(program, name)
-    if not is_machine(machine, rules, many) or not is_paper(paper, still_in(rules, many), len(machine)):
+    if not is_machine(machine, rules, many):
         return False
-    states = {spots: state for spots, state in paper}
-    if states[()] != 0:
+    sieve = Sieve(rules, many)
+    stills = stills_by(sieve)
+    if not is_paper(paper, [still[0] for still in stills], len(machine)):
         return False
-    entries = entries_of(rules, many)
-    return all([machine[states[spots]] == row_by(entries[spots], states) for spots in entries])
+    states = {still[1]: row[1] for still, row in zip(stills, paper)}
+    if states[0] != 0:
+        return False
+    return all([machine[states[still[1]]] == row_wanted(row_of(sieve, still), states) for still in stills])
+
+
+def row_wanted(row, states):
+    """What a state's row has to tell, where the sets have these states."""
+    return tuple([("stays", states[there]) if there >= 0 else ("goes", GOES - there) for there in row])
+
+
+def rule_at(rules, many, spots):
+    """The first rule that can meet where one of the sets of so many spots lies, or None; NoSet of anything else."""
+    if not is_set(spots, many):
+        raise NoSet(spots)
+    return first_rule(rules, spots)
 
 
 def few_spots(program, name):
     """The parted rules of a kind and how many spots it has; TooMany where no machine is made of so many."""
-    kind = kind_of(program, name)
-    many = count_spots(kind)
+    kind = kind_named(program, name)
+    grid, many = grid_of(kind)
     if many > MOST_IN_MACHINE:
         raise TooMany(many)
-    return parted_in(kind), many
-
-
-def made_machine(program, name):
-    """The made machine of a kind, and the states of its still sets."""
-    rules, many = few_spots(program, name)
-    return machine_in(entries_of(rules, many))
+    return parted_in(kind, grid), many
 
 
 def first_parting(machine, one, other):

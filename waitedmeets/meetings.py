@@ -5,10 +5,12 @@ from waitedmeets.worths import alike
 
 def fits(letter, head):
     """Whether a letter lies at a head's place and carries what the head asks for."""
-    place, slots = head
-    if letter[1] != place:
+    if letter[1] != head[0]:
         return False
-    return all([slot[0] == "as" or alike(slot[1], worth) for slot, worth in zip(slots, letter[2])])
+    for slot, worth in zip(head[1], letter[2]):
+        if slot[0] == "is" and not alike(slot[1], worth):
+            return False
+    return True
 
 
 def fitting(heap, head):
@@ -25,12 +27,23 @@ def choices(heap, heads):
     return rows
 
 
+def first_fitting(heap, head):
+    """The number of the first letter of a heap that fits a head; None where none does."""
+    for letter in heap:
+        if fits(letter, head):
+            return letter[0]
+    return None
+
+
 def first_choice(heap, heads):
     """For each head the first letter of the heap that fits; None where one has none."""
-    found = [fitting(heap, head) for head in heads]
-    if any([len(numbers) == 0 for numbers in found]):
-        return None
-    return tuple([numbers[0] for numbers in found])
+    found = []
+    for head in heads:
+        number = first_fitting(heap, head)
+        if number is None:
+            return None
+        found.append(number)
+    return tuple(found)
 
 
 def first_meeting(heap, rules):
@@ -42,11 +55,19 @@ def first_meeting(heap, rules):
     return None
 
 
-def is_choice(heap, heads, letters):
+def letters_numbered(heap, numbers):
+    """The letters of these numbers that lie in a heap, in the numbers' order."""
+    return [letter for number in numbers for letter in heap if letter[0] == number]
+
+
+def is_choice(heap, heads, numbers):
     """Whether these numbers, a tuple of whole ones, are letters of the heap that fit the heads, one each."""
+    if len(numbers) != len(heads):
+        return False
+    letters = letters_numbered(heap, numbers)
     if len(letters) != len(heads):
         return False
-    return all([number in fitting(heap, head) for number, head in zip(letters, heads)])
+    return all([fits(letter, head) for letter, head in zip(letters, heads)])
 
 
 def without(heap, letters):
@@ -57,7 +78,7 @@ def without(heap, letters):
 def begin_met(crew, lot, rule, heap, letters):
     """The number of the body of a meeting of letters of this heap, None where the rule has no deeds."""
     heads, deeds = crew.rules_at(lot)[rule]
-    taken = [letter for number in letters for letter in heap if letter[0] == number]
+    taken = letters_numbered(heap, letters)
     askers = {letter[1]: letter[3] for letter in taken}
     return crew.begin(lot, carried(heads, taken), deeds, askers)
 

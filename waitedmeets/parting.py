@@ -1,7 +1,10 @@
-"""Letters parted by what they carry: the spots of a kind, and its rules over them."""
+"""Letters parted by what they carry: the spots of a kind, and its rules over them.
+
+A grid of a kind has for each place, in order, the number of its first spot, and for each slot a list of its constants.
+"""
 
 from waitedmeets.errors import TooMany
-from waitedmeets.programs import kind_of
+from waitedmeets.programs import kind_named
 from waitedmeets.worths import alike
 
 MOST_SPOTS = 24
@@ -9,86 +12,104 @@ MOST_SPOTS = 24
 
 def spots_of(program, name):
     """The spots of a kind, tuples (place, class), in their order."""
-    return spots_in(parted_kind(program, name))
+    kind, grid = parted_kind(program, name)
+    return [(place, row) for place in grid for row in classes_by(grid[place][1])]
 
 
 def spot_of(program, name, place, given):
     """The number of the spot of a letter at a place, by what is given."""
-    return spot_among(spots_in(parted_kind(program, name)), place, given)
+    kind, grid = parted_kind(program, name)
+    return spot_in(grid, place, given)
 
 
 def parted_rules(program, name):
     """For each rule and each head the numbers of the spots that it takes, rising."""
-    return parted_in(parted_kind(program, name))
+    kind, grid = parted_kind(program, name)
+    return parted_in(kind, grid)
 
 
 def parted_kind(program, name):
-    """The kind of this name; TooMany where it has too many spots."""
-    kind = kind_of(program, name)
-    many = count_spots(kind)
+    """The kind of this name, and its grid; TooMany where it has too many spots."""
+    kind = kind_named(program, name)
+    grid, many = grid_of(kind)
     if many > MOST_SPOTS:
         raise TooMany(many)
-    return kind
+    return kind, grid
 
 
-def count_spots(kind):
-    """How many spots a kind has; they are not made for it, as they may be far too many."""
-    total = 0
-    for place, many in kind[1]:
+def grid_of(kind):
+    """The grid of a kind, and how many spots it has; they are not made for it, as they may be far too many."""
+    asked = asked_in(kind)
+    grid = {}
+    many = 0
+    for place in asked:
+        rows = [in_order(worths) for worths in asked[place]]
+        grid[place] = (many, rows)
         classes = 1
-        for slot in range(many):
-            classes = classes * (len(constants_at(kind, place, slot)) + 1)
-        total += classes
-    return total
+        for constants in rows:
+            classes = classes * (len(constants) + 1)
+        many += classes
+    return grid, many
 
 
-def constants_at(kind, place, slot):
-    """The worths that heads ask for at a place's slot, each once: numbers rising, then False, True."""
-    asked = []
+def asked_in(kind):
+    """For each place and slot all worths that heads ask for there."""
+    asked = {place: [[] for slot in range(many)] for place, many in kind[1]}
     for heads, deeds in kind[2]:
-        asked.extend([slots[slot][1] for where, slots in heads if where == place and slots[slot][0] == "is"])
-    numbers = sorted(set([worth for worth in asked if not isinstance(worth, bool)]))
-    truths = [truth for truth in (False, True) if any([alike(worth, truth) for worth in asked])]
+        for place, slots in heads:
+            for row, slot in zip(asked[place], slots):
+                if slot[0] == "is":
+                    row.append(slot[1])
+    return asked
+
+
+def in_order(worths):
+    """Worths that are asked for, each once: numbers rising, then False, True."""
+    if len(worths) == 0:
+        return []
+    numbers = sorted(set([worth for worth in worths if not isinstance(worth, bool)]))
+    truths = [truth for truth in (False, True) if any([alike(worth, truth) for worth in worths])]
     return [*numbers, *truths]
 
 
-def classes_at(kind, place, many):
-    """The classes of a place, the first slot's worth changing last."""
-    rows = [()]
-    for slot in range(many):
-        parts = constants_at(kind, place, slot) + [None]
-        rows = [(*row, part) for row in rows for part in parts]
-    return rows
+def classes_by(rows):
+    """The classes of a place with these constants, the first slot's worth changing last."""
+    classes = [()]
+    for constants in rows:
+        classes = [(*row, part) for row in classes for part in [*constants, None]]
+    return classes
 
 
-def spots_in(kind):
-    """The spots of a kind, place by place."""
-    return [(place, row) for place, many in kind[1] for row in classes_at(kind, place, many)]
+def spot_in(grid, place, given):
+    """The number of the spot of a letter at a place; None where there is no such place."""
+    if place not in grid:
+        return None
+    first, rows = grid[place]
+    number = 0
+    for constants, worth in zip(rows, given):
+        number = number * (len(constants) + 1) + rank_of(constants, worth)
+    return first + number
 
 
-def spot_among(spots, place, given):
-    """The number of the spot of a letter at a place.
-
-    Of the spots that would do it is the first: a slot's constants stand ahead of None, which any worth would do for.
-    """
-    for number, (where, row) in enumerate(spots):
-        if where == place and all([part is None or alike(part, worth) for part, worth in zip(row, given)]):
-            return number
-    return None
+def rank_of(constants, worth):
+    """Which of a slot's constants a worth is; any other worth comes behind them all."""
+    for at, constant in enumerate(constants):
+        if alike(constant, worth):
+            return at
+    return len(constants)
 
 
-def parted_in(kind):
+def parted_in(kind, grid):
     """The parted rules of a kind."""
-    spots = spots_in(kind)
-    return tuple([tuple([spots_taken(spots, head) for head in heads]) for heads, deeds in kind[2]])
+    return tuple([tuple([spots_taken(grid, head) for head in heads]) for heads, deeds in kind[2]])
 
 
-def spots_taken(spots, head):
-    """The numbers of the spots that a head takes."""
+def spots_taken(grid, head):
+    """The numbers of the spots that a head takes: at each slot that asks for a worth those of just that worth."""
     place, slots = head
-    return tuple([number for number, (where, row) in enumerate(spots) if where == place and takes(slots, row)])
-
-
-def takes(slots, row):
-    """Whether a class has at each slot that asks for a worth just that worth."""
-    return all([slot[0] == "as" or alike(slot[1], part) for slot, part in zip(slots, row)])
+    first, rows = grid[place]
+    numbers = [0]
+    for constants, slot in zip(rows, slots):
+        ranks = [rank_of(constants, slot[1])] if slot[0] == "is" else list(range(len(constants) + 1))
+        numbers = [number * (len(constants) + 1) + rank for number in numbers for rank in ranks]
+    return tuple([first + number for number in numbers])

@@ -1,6 +1,6 @@
 """Programs: kinds with their places and rules, and main; the first wrong thing of what is none."""
 
-from waitedmeets.deeds import Ground, first_wrong_deed, is_tuple_of
+from waitedmeets.deeds import Ground, first_wrong_deed, is_named, is_tuple_of
 from waitedmeets.errors import NoKind, NoProgram
 from waitedmeets.worths import is_whole, is_word, is_written, says
 
@@ -34,6 +34,13 @@ def look_at_program(thing):
 def kind_of(program, name):
     """The kind of this name; NoKind of anything that names none."""
     look_at_program(program)
+    return kind_named(program, name)
+
+
+def kind_named(program, name):
+    """The kind of this name, where only the frame of the program is looked at; NoKind of anything that names none."""
+    if not is_frame(program):
+        raise NoProgram(None, None, None)
     for kind in program[0]:
         if says(name, kind[0]):
             return kind
@@ -64,21 +71,24 @@ def look_at_shapes(kinds):
 
 def has_shape(thing):
     """Whether it has the shape of a kind, whatever its rules are."""
-    if not is_tuple_of(thing, 3, 3):
+    if not isinstance(thing, tuple) or len(thing) != 3:
         return False
     return is_word(thing[0]) and are_places(thing[1]) and is_tuple_of(thing[2], 0, MOST_RULES)
 
 
 def are_places(thing):
     """Whether these are the places of a kind."""
-    if not is_tuple_of(thing, 1, MOST_PLACES) or not all([is_place_row(row) for row in thing]):
+    if not is_tuple_of(thing, 1, MOST_PLACES):
         return False
-    return are_unlike([word for word, many in thing])
+    for row in thing:
+        if not is_place_row(row):
+            return False
+    return are_unlike([row[0] for row in thing])
 
 
 def is_place_row(thing):
     """Whether it is a place's word with how many things its letters carry."""
-    if not is_tuple_of(thing, 2, 2):
+    if not isinstance(thing, tuple) or len(thing) != 2:
         return False
     return is_word(thing[0]) and is_whole(thing[1]) and 0 <= thing[1] <= MOST_CARRIED
 
@@ -102,33 +112,40 @@ def look_at_rules(at, kind, names):
 
 def is_rule_frame(thing, places):
     """Whether it has the shape of a rule with right heads, whatever its deeds are."""
-    if not is_tuple_of(thing, 2, 2):
+    if not isinstance(thing, tuple) or len(thing) != 2:
         return False
     return are_heads(thing[0], places) and is_tuple_of(thing[1], 0, MOST_IN_RULE)
 
 
 def are_heads(thing, places):
     """Whether these are the heads of a rule of a kind with these places."""
-    if not is_tuple_of(thing, 1, MOST_HEADS) or not all([is_head(head, places) for head in thing]):
+    if not is_tuple_of(thing, 1, MOST_HEADS):
         return False
-    return are_unlike([place for place, slots in thing]) and are_unlike(names_in(thing))
+    for head in thing:
+        if not is_head(head, places):
+            return False
+    return are_unlike([head[0] for head in thing]) and are_unlike(names_in(thing))
 
 
 def is_head(thing, places):
     """Whether it is a place with a slot for each thing that its letters carry."""
-    if not is_tuple_of(thing, 2, 2) or not is_word(thing[0]) or thing[0] not in places:
+    if not isinstance(thing, tuple) or len(thing) != 2 or not is_named(thing[0], places):
         return False
-    many = places[thing[0]]
-    return is_tuple_of(thing[1], many, many) and all([is_slot(slot) for slot in thing[1]])
+    if not isinstance(thing[1], tuple) or len(thing[1]) != places[thing[0]]:
+        return False
+    for slot in thing[1]:
+        if not is_slot(slot):
+            return False
+    return True
 
 
 def is_slot(thing):
     """Whether it is a name to take a worth by, or a worth to ask for."""
-    if not is_tuple_of(thing, 2, 2):
+    if not isinstance(thing, tuple) or len(thing) != 2:
         return False
-    if says(thing[0], "as"):
+    if thing[0] == "as":
         return is_word(thing[1])
-    return says(thing[0], "is") and is_written(thing[1])
+    return thing[0] == "is" and is_written(thing[1])
 
 
 def names_in(heads):

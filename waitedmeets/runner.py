@@ -10,12 +10,13 @@ from waitedmeets.stands import Stand
 class Runner:
     """A program that goes as it is woven: by which bodies go, one behind the other.
 
-    plain is the plain reading of its run; which letters meet in it is told by the lots' keepers alone.
+    plain is the plain reading of its run; which letters meet in it is told by the lots' keepers alone. books has those
+    of the kinds of which there is a lot.
     """
 
     def __init__(self, program):
         self.plain = Stand(program)
-        self.books = {kind[0]: Book(kind) for kind in program[0]}
+        self.books = {}
         self.keepers = []
         self.went = []
 
@@ -23,7 +24,7 @@ class Runner:
         """A body's next deed, and the rule that goes off by it; NoBody of anything that can't go."""
         if not self.plain.crew.can_go(body):
             raise NoBody(body)
-        self.plain.do(("go", body))
+        self.plain.do_go(body)
         self.went.append(body)
         self.keep_new_lots()
         if self.plain.fresh is not None:
@@ -31,9 +32,15 @@ class Runner:
 
     def keep_new_lots(self):
         """Each lot has a keeper, from when it is made."""
-        kinds = self.plain.crew.lot_kinds
-        while len(self.keepers) < len(kinds):
-            self.keepers.append(Keeper(self.books[kinds[len(self.keepers)]]))
+        made = self.plain.crew.lot_kinds
+        while len(self.keepers) < len(made):
+            self.keepers.append(Keeper(self.book_of(made[len(self.keepers)])))
+
+    def book_of(self, name):
+        """The book of a kind, made for its first lot."""
+        if name not in self.books:
+            self.books[name] = Book(self.plain.crew.kinds[name])
+        return self.books[name]
 
     def letter_came(self, lot):
         """The last letter of a lot's heap has just come."""
@@ -41,7 +48,7 @@ class Runner:
         meeting = self.keepers[lot].meeting_by(heap[-1], heap)
         if meeting is not None:
             rule, letters = meeting
-            self.plain.do(("meet", lot, rule, letters))
+            self.plain.do_meet(lot, rule, letters)
 
     def weave(self, bodies):
         """These bodies go, one behind the other, up to the first that can't; NoBody of it."""
@@ -107,6 +114,7 @@ class Runner:
         """A runner like it that goes on by itself."""
         other = Runner(LEAST)
         other.plain = self.plain.twin()
+        # Shared, as a book hangs on its kind alone: whoever makes it first makes it for both.
         other.books = self.books
         other.keepers = [keeper.copied() for keeper in self.keepers]
         other.went = list(self.went)

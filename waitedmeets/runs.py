@@ -7,43 +7,44 @@ from waitedmeets.stands import Stand
 
 def first_wrong(program, run):
     """None of a run; else the number of the first step that can't be done, -1 of no list."""
-    stand, wrong = gone_through(program, run)
+    stand, wrong, chosen = gone_through(program, run, False)
     return wrong
 
 
 def stand_behind(program, run):
     """The stand behind a run; NoRun of what is none."""
-    stand, wrong = gone_through(program, run)
+    stand, wrong, chosen = gone_through(program, run, False)
     if wrong is not None:
         raise NoRun(wrong)
     return stand
 
 
 def chooses(program, run):
-    """Whether the told rule chooses in a run; NoRun of what is none."""
-    # Whether it is a run at all goes ahead, also of steps behind the first that isn't chosen.
-    stand_behind(program, run)
-    stand = Stand(program)
-    due = None
-    for step in run:
-        if (due is not None or step[0] == "meet") and step != due:
-            return False
-        stand.do(step)
-        due = due_meet(stand)
-    return due is None
+    """Whether the told rule chooses in a run; NoRun of what is none, also by a step behind the first not chosen."""
+    stand, wrong, chosen = gone_through(program, run, True)
+    if wrong is not None:
+        raise NoRun(wrong)
+    return chosen
 
 
-def gone_through(program, run):
-    """The stand behind the steps that can be done, and what first_wrong tells."""
+def gone_through(program, run, watched):
+    """The stand behind the steps that can be done, what first_wrong tells, and whether the told rule chose them.
+
+    The last is told only where it is watched.
+    """
     stand = Stand(program)
     if not isinstance(run, list):
-        return stand, -1
+        return stand, -1, False
+    due = None
     for number, step in enumerate(run):
         try:
             stand.do(step)
         except NoStep:
-            return stand, number
-    return stand, None
+            return stand, number, False
+        if watched:
+            watched = step == due if due is not None else step[0] == "go"
+            due = due_meet(stand)
+    return stand, None, watched and due is None
 
 
 def due_meet(stand):

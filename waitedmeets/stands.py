@@ -4,7 +4,7 @@ from waitedmeets.crew import Crew
 from waitedmeets.errors import NoStep
 from waitedmeets.meetings import begin_met, choices, is_choice, without
 from waitedmeets.programs import LEAST, look_at_program
-from waitedmeets.worths import is_whole, says
+from waitedmeets.worths import is_whole
 
 
 class Stand:
@@ -36,10 +36,10 @@ class Stand:
             self.do_meet(step[1], step[2], step[3])
         else:
             raise NoStep("no step that can be done here")
-        self.past.append(step)
 
     def do_go(self, body):
         """The next deed of a body that can go."""
+        self.past.append(("go", body))
         told = self.crew.do_deed(body)
         while len(self.heaps) < len(self.crew.lot_kinds):
             self.heaps.append([])
@@ -57,7 +57,8 @@ class Stand:
         return is_choice(self.heaps[lot], self.crew.rules_at(lot)[rule][0], letters)
 
     def do_meet(self, lot, rule, letters):
-        """The letters go, and a body comes."""
+        """The letters, which can meet, go, and a body comes."""
+        self.past.append(("meet", lot, rule, letters))
         heap = self.heaps[lot]
         begin_met(self.crew, lot, rule, heap, letters)
         self.heaps[lot] = without(heap, letters)
@@ -115,12 +116,12 @@ class Stand:
 
 def is_go(thing):
     """Whether it has the form of the step of a body."""
-    return isinstance(thing, tuple) and len(thing) == 2 and says(thing[0], "go")
+    return isinstance(thing, tuple) and len(thing) == 2 and thing[0] == "go"
 
 
 def is_meet(thing):
     """Whether it has the form of a meeting, with whole numbers all through."""
-    if not isinstance(thing, tuple) or len(thing) != 4 or not says(thing[0], "meet"):
+    if not isinstance(thing, tuple) or len(thing) != 4 or thing[0] != "meet":
         return False
     if not is_whole(thing[1]) or not is_whole(thing[2]) or not isinstance(thing[3], tuple):
         return False

@@ -3,7 +3,6 @@
 MOST = 10 ** 9
 WORDS = ("plus", "minus", "times", "below", "same")
 
-LETTERS = "abcdefghijklmnopqrstuvwxyz"
 LONGEST_WORD = 6
 
 
@@ -11,7 +10,8 @@ def is_word(thing):
     """Whether it is a text of one to six small letters."""
     if not isinstance(thing, str) or not 1 <= len(thing) <= LONGEST_WORD:
         return False
-    return all([letter in LETTERS for letter in thing])
+    # Asked first whether it is ascii, as there are small letters elsewhere, too.
+    return thing.isascii() and thing.isalpha() and thing.islower()
 
 
 def says(thing, word):
@@ -40,8 +40,8 @@ def is_number(thing):
 
 
 def is_written(thing):
-    """Whether it is a number or a truth, the worths that can stand in a program."""
-    return isinstance(thing, bool) or is_number(thing)
+    """Whether it is a number or a truth, the worths that can stand in a program; Python's truths are ints, too."""
+    return isinstance(thing, int) and -MOST <= thing <= MOST
 
 
 def is_lot(thing):
