@@ -7,6 +7,8 @@ import re
 import unittest
 import warnings
 
+from test_interface import FUNCTIONS
+
 PACKAGE = pathlib.Path(__file__).resolve().parent.parent / "waitedmeets"
 FILES = sorted(PACKAGE.glob("*.py"))
 
@@ -133,6 +135,21 @@ class Bindings(unittest.TestCase):
             for part in (inner for row in node.body for inner in ast.walk(row)):
                 if isinstance(part, ast.Attribute) and part.attr in changing:
                     self.assertNotIn(ast.unparse(part.value), over, (path.name, node.lineno))
+
+
+class Helpers(unittest.TestCase):
+    def test_each_function_stands_in_one_file_alone(self):
+        names = [node.name for _, tree in trees() for node in tree.body if isinstance(node, ast.FunctionDef)]
+        self.assertEqual(sorted(set(names)), sorted(names))
+
+    def test_none_that_nothing_uses(self):
+        """Each function that the interface doesn't list is called, or stands in a table, somewhere in the package."""
+        used = {node.id for _, node in nodes(ast.Name) if isinstance(node.ctx, ast.Load)}
+        listed = {name for functions in FUNCTIONS.values() for name in functions}
+        for path, tree in trees():
+            for node in tree.body:
+                if isinstance(node, ast.FunctionDef) and node.name not in listed:
+                    self.assertIn(node.name, used, path.name)
 
 
 class Imports(unittest.TestCase):

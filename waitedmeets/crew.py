@@ -59,7 +59,7 @@ class Crew:
 
     def __init__(self, program):
         self.program = program
-        # Made once, but not ahead of when two are compared, as most never are.
+        # Not made ahead of when it is asked for, as it takes long, and most are never compared.
         self.program_text = None
         self.kinds = {kind[0]: kind for kind in program[0]}
         self.lot_kinds = []
@@ -157,14 +157,19 @@ class Crew:
     def text_of_program(self):
         """A text that is the same for the same program, and for no other: in it True is not 1."""
         if self.program_text is None:
-            self.program_text = repr(self.program)
+            return repr(self.program)
         return self.program_text
+
+    def keep_text(self):
+        """The program's text is made once for all that ask from now on, twins too."""
+        self.program_text = self.text_of_program()
 
     def copied(self):
         """A crew like it that goes on by itself."""
+        self.keep_text()
         other = Crew(LEAST)
         other.program = self.program
-        other.program_text = self.text_of_program()
+        other.program_text = self.program_text
         other.kinds = self.kinds
         other.lot_kinds = list(self.lot_kinds)
         other.working = {number: self.working[number].copied() for number in self.working}

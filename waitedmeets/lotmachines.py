@@ -1,10 +1,9 @@
 """Machines of lots: for each letter that comes, whether it stays or which rule goes off."""
 
 from waitedmeets.deeds import is_tuple_of
-from waitedmeets.errors import NoSet, NoState, TooMany
+from waitedmeets.errors import NoSet, NoState
 from waitedmeets.fewest import machine_by
-from waitedmeets.parting import grid_of, parted_in
-from waitedmeets.programs import kind_named
+from waitedmeets.parting import parted_in, parted_kind
 from waitedmeets.stillsets import GOES, Sieve, as_bits, first_rule, is_set, row_of, stills_by
 from waitedmeets.worths import is_number_below, is_whole, says
 
@@ -95,10 +94,7 @@ def rule_at(rules, many, spots):
 
 def few_spots(program, name):
     """The parted rules of a kind and how many spots it has; TooMany where no machine is made of so many."""
-    kind = kind_named(program, name)
-    grid, many = grid_of(kind)
-    if many > MOST_IN_MACHINE:
-        raise TooMany(many)
+    kind, grid, many = parted_kind(program, name, MOST_IN_MACHINE)
     return parted_in(kind, grid), many
 
 

@@ -12,29 +12,29 @@ MOST_SPOTS = 24
 
 def spots_of(program, name):
     """The spots of a kind, tuples (place, class), in their order."""
-    kind, grid = parted_kind(program, name)
+    kind, grid, many = parted_kind(program, name, MOST_SPOTS)
     return [(place, row) for place in grid for row in classes_by(grid[place][1])]
 
 
 def spot_of(program, name, place, given):
     """The number of the spot of a letter at a place, by what is given."""
-    kind, grid = parted_kind(program, name)
+    kind, grid, many = parted_kind(program, name, MOST_SPOTS)
     return spot_in(grid, place, given)
 
 
 def parted_rules(program, name):
     """For each rule and each head the numbers of the spots that it takes, rising."""
-    kind, grid = parted_kind(program, name)
+    kind, grid, many = parted_kind(program, name, MOST_SPOTS)
     return parted_in(kind, grid)
 
 
-def parted_kind(program, name):
-    """The kind of this name, and its grid; TooMany where it has too many spots."""
+def parted_kind(program, name, most):
+    """The kind of this name, its grid, and how many spots it has; TooMany where these are more than most."""
     kind = kind_named(program, name)
     grid, many = grid_of(kind)
-    if many > MOST_SPOTS:
+    if many > most:
         raise TooMany(many)
-    return kind, grid
+    return kind, grid, many
 
 
 def grid_of(kind):

@@ -105,13 +105,18 @@ class Stand:
 
     def seen(self):
         """A tuple that is the same for stands that are alike, and for no others."""
+        self.crew.keep_text()
+        return self.image()
+
+    def image(self):
+        """What seen tells, where nothing is kept for the next time."""
         return (self.crew.image(), repr(self.heaps))
 
     def __len__(self):
         return len(self.past)
 
     def __eq__(self, other):
-        return isinstance(other, Stand) and self.seen() == other.seen()
+        return isinstance(other, Stand) and self.image() == other.image()
 
 
 def is_go(thing):
