@@ -195,6 +195,7 @@ class Worths(unittest.TestCase):
         ):
             self.assertEqual(repr(worth_called(worth, words)), repr(wanted))
             self.assertEqual(repr(worth_called(worth, {})), repr(worth))
+            self.assertEqual(repr(worth_called(worth, None)), repr(worth))
             self.assertEqual(repr(worth_called(worth=worth, words={"q": "r"})), repr(worth))
         self.assertEqual(words, {"a": "b", "b": "c", "lot": "x", "place": "y"})
 

@@ -232,7 +232,7 @@ class RowsOfPrograms(unittest.TestCase):
         self.good("place a 0", "place a 3", "place a 4", "place a " + "9" * 60)
 
     def test_rules(self):
-        self.wrong("rule", "rule a", "rule a(", "rule a)", "rule (a)", "rule ()", "rule a(x", "rule ax)", "rule a(x))",
+        self.wrong("rule", "foo a()", "Rule a()", "main a()", "a()", "rule a", "rule a(", "rule a)", "rule (a)", "rule ()", "rule a(x", "rule ax)", "rule a(x))",
                    "rule a((x)", "rule a(x)b", "rule a(,)", "rule a(x,)", "rule a(,x)", "rule A()", "rule a(X)", "rule a(*)",
                    "rule a(=)", "rule a(==1)", "rule a(=x)", "rule a(=01)", "rule a(=-0)", "rule a(=+1)", "rule a(=-)",
                    "rule a(=Yes)", "rule a(=1.5)", "rule a() b", "rule a(x y)", "rule letters()", "rule a(letters)",
@@ -259,7 +259,8 @@ class RowsOfPrograms(unittest.TestCase):
                    "  let x set y z", "  let x = y z", "  let x plus y ()", "  note (x)", "  note =", "  note =-0",
                    "  note =00", "  note =yess", "  note yes!", "  note 1", "  note -1", "  note **", "  note =*",
                    "  make x =1", "  make x *", "  place x y =1", "  place x y *", "  lay x y", "  lay x (", "  lay x )",
-                   "  lay x (y", "  lay x y)", "  lay x (y,)", "  lay x (,)", "  lay x (())", "  lay () ()", "  lay x ()()",
+                   "  lay x (y", "  lay x y)", "  lay x (yz", "  lay x yz)", "  lay x xyz", "  lay x ",
+                   "  put a ", "  lay x [y]", "  lay x (y,)", "  lay x (,)", "  lay x (())", "  lay () ()", "  lay x ()()",
                    "  put * ()", "  put =1 ()", "  put a x", "  call * x ()", "  call x y z", "  answer * x", "  answer =1 x",
                    "  answer a ()", "  when x y", "  when x =1", "  when x -1", "  when x 01", "  when x " + "1" * 61,
                    "  when 1 1", "  note =" + "1" * 61, "  note =-" + "1" * 61, "  lay x (y;z)", "  note =1e3")
@@ -339,7 +340,7 @@ class RowsOfRuns(unittest.TestCase):
     def test_wrong_rows(self):
         great = "1" * 61
         for row in ("go", "go ", "go x", "go -1", "go +1", "go 01", "go 00", "go 0 0", " go 0", "go 0 ", "go  0", "go\t0",
-                    "Go 0", "come 0", "move 0 1", "meet", "meet 0", "meet 0 0", "meet 0 0 ", "meet 0 0 0 0", "meet 0 0 0,",
+                    "Go 0", "come 0", "move 0 1", "meet", "meet 0", "meet 0 0", "meet 0 0 ", "meet 0 0 0 0", "mete 0 0 0", "go 0 0 0", "meet 0 0 0,",
                     "meet 0 0 ,0", "meet 0 0 0,,1", "meet 0 0 ,", "meet 0 0 (0)", "meet 0 0 0, 1", "meet 0 0 -1",
                     "meet 0 0 01", "meet 00 0 0", "meet 0 -0 0", "meet x 0 0", "meet 0 x 0", "meet 0 0 x", "  go 0", " ", "",
                     "go =0", "go yes", f"go {great}", f"meet 0 0 0,{great}", f"meet {great} 0 0", "go 0;", "0", "kind k",

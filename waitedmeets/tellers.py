@@ -1,8 +1,8 @@
 """Tellers: kinds of which nothing is seen but what they note behind each letter."""
 
+from waitedmeets.deeds import is_named
 from waitedmeets.errors import NoRow, NoTeller
 from waitedmeets.nets import is_kind
-from waitedmeets.worths import is_word
 
 
 def is_teller(thing):
@@ -45,7 +45,7 @@ def words_of(teller):
 
 def is_row_of(thing, words):
     """Whether it is a list of some of these words, of anything."""
-    return isinstance(thing, list) and all([is_word(word) and word in words for word in thing])
+    return isinstance(thing, list) and all([is_named(word, words) for word in thing])
 
 
 def no_letters(teller):
